@@ -1,0 +1,1 @@
+"""Lampward: a power grid that stays whole after the loss of any one part."""

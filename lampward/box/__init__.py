@@ -1,0 +1,1 @@
+"""Boxes of points."""

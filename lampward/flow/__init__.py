@@ -1,0 +1,1 @@
+"""Systems of equations, heights and flows."""

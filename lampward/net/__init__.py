@@ -1,0 +1,1 @@
+"""Grids, their cases and their islands."""

@@ -1,0 +1,1 @@
+"""Fractions and their texts."""

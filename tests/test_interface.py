@@ -1,0 +1,48 @@
+"""Everything of the interface stands in the file under which the document lists it."""
+
+import importlib
+import inspect
+import unittest
+
+FUNCTIONS = {
+    "lampward.num.fractions": ["fraction", "plus", "minus", "times", "over", "total", "less", "floor", "ceiling"],
+    "lampward.num.writing": ["write_fraction", "read_fraction"],
+    "lampward.net.grid": ["is_name"],
+    "lampward.net.cases": ["cases", "grid_of"],
+    "lampward.net.islands": ["islands", "island_at"],
+    "lampward.flow.solving": ["solve"],
+    "lampward.flow.flows": ["heights", "flows", "factors"],
+    "lampward.box.boxes": ["fits", "meet", "is_within"],
+}
+CLASSES = {
+    "lampward.errors": [
+        "LampwardError", "ZeroBottom", "BadGrid", "NoSuch", "Uneven", "BadBox", "Misfit", "EmptyBox",
+        "NotGranted", "Outside", "NoPoint", "NothingToUndo", "BadText",
+    ],
+    "lampward.net.grid": ["Line", "Unit", "Load", "Grid"],
+    "lampward.box.boxes": ["Box"],
+}
+METHODS = {("lampward.box.boxes", "Box"): ["holds"]}
+
+
+class Interface(unittest.TestCase):
+    def assert_defined(self, module, name, is_kind):
+        found = getattr(importlib.import_module(module), name)
+        self.assertTrue(is_kind(found), name)
+        self.assertEqual(found.__module__, module, name)
+
+    def test_functions(self):
+        for module, names in FUNCTIONS.items():
+            for name in names:
+                self.assert_defined(module, name, inspect.isfunction)
+
+    def test_classes(self):
+        for module, names in CLASSES.items():
+            for name in names:
+                self.assert_defined(module, name, inspect.isclass)
+
+    def test_methods_stand_in_the_class_itself(self):
+        for (module, name), methods in METHODS.items():
+            found = getattr(importlib.import_module(module), name)
+            for method in methods:
+                self.assertIn(method, vars(found))
