@@ -1,5 +1,6 @@
 """What several tests need: fractions of Python, made grids, and views of grids."""
 
+import itertools
 import math
 import random
 from fractions import Fraction
@@ -127,3 +128,137 @@ def island_lists(grid):
     """The islands of a grid, found the slow way."""
     lists = connected(grid)
     return [lists[bus] for bus in range(grid.buses) if lists[bus][0] == bus]
+
+
+def with_shares(chance, grid, shares):
+    """The same grid, with shares that are taken from these."""
+    units = [Unit(unit.name, unit.bus, unit.low, unit.high, chance.choice(shares)) for unit in grid.units]
+    return Grid(grid.buses, grid.lines, units, grid.loads)
+
+
+def shared_grids(seed, many):
+    """Made grids in which islands of weight 0 and units of share 0 are frequent."""
+    chance = random.Random(seed)
+    found = []
+    for k, grid in enumerate(made_grids(seed, many)):
+        few = Grid(grid.buses, grid.lines[:chance.choice([2, 4, 7, 12])], grid.units, grid.loads)
+        found.append(with_shares(chance, few, [[0], [0, 1], [0, 0, 0, 9], [1, 2, 3], range(10)][k % 5]))
+    return found
+
+
+def at_island(parts, island):
+    """The places, in the list of loads or units, of those that stand in the island."""
+    return [k for k, part in enumerate(parts) if part.bus in island]
+
+
+def differences(grid, sizes, outs):
+    """For each island the sum of its sizes minus the sum of its outputs."""
+    found = []
+    for island in island_lists(grid):
+        taken = sum(sizes[k] for k in at_island(grid.loads, island))
+        found.append(taken - sum(outs[k] for k in at_island(grid.units, island)))
+    return found
+
+
+def first_uneven(grid, sizes, outs):
+    """The first bus of the first island whose sums differ, or None."""
+    for island, difference in zip(island_lists(grid), differences(grid, sizes, outs)):
+        if difference != 0:
+            return island[0]
+    return None
+
+
+def even_numbers(chance, grid, low=-60, high=60):
+    """Sizes and outputs that are even: numbers from low to high, except one of each island."""
+    sizes = [chance.randint(low, high) for _ in grid.loads]
+    outs = [chance.randint(low, high) for _ in grid.units]
+    for island, difference in zip(island_lists(grid), differences(grid, sizes, outs)):
+        loads, units = at_island(grid.loads, island), at_island(grid.units, island)
+        if loads and (not units or chance.random() < 0.5):
+            sizes[chance.choice(loads)] -= difference
+        elif units:
+            outs[chance.choice(units)] += difference
+    return sizes, outs
+
+
+def points_of(rows, others):
+    """All points of a box with these ranges."""
+    many = len(rows)
+    for numbers in itertools.product(*[range(low, high + 1) for low, high in rows + others]):
+        yield list(numbers[:many]), list(numbers[many:])
+
+
+def even_points_of(grid, rows, others):
+    """All even points of a box with these ranges."""
+    return [point for point in points_of(rows, others) if not any(differences(grid, *point))]
+
+
+def made_ranges(chance, many, most=999):
+    rows = []
+    for _ in range(many):
+        low = chance.randint(0, most)
+        rows.append((low, chance.randint(low, most)))
+    return rows
+
+
+def ranges_in(chance, units):
+    """For each unit a range within its own."""
+    rows = []
+    for unit in units:
+        low = chance.randint(unit.low, unit.high)
+        rows.append((low, chance.randint(low, unit.high)))
+    return rows
+
+
+def ranges_of(box):
+    return (tuple(box.sizes), tuple(box.outs))
+
+
+def small_grid(chance, most=4, parts=5):
+    """A grid with few loads and units, whose ranges are short."""
+    buses = chance.randint(1, 5)
+    lines = []
+    for k in range(chance.randint(0, buses)):
+        if buses > 1:
+            a, b = chance.sample(range(buses), 2)
+            lines.append(Line("l" + str(k), a, b, chance.randint(1, 9), chance.randint(0, 5)))
+    many = chance.randint(0, parts)
+    units = []
+    for k in range(chance.randint(0, many)):
+        low = chance.randint(0, most)
+        units.append(Unit("u" + str(k), chance.randrange(buses), low, chance.randint(low, most), chance.randint(0, 3)))
+    loads = [Load("d" + str(k), chance.randrange(buses)) for k in range(many - len(units))]
+    return Grid(buses, lines, units, loads)
+
+
+def small_box(chance, grid, most=4):
+    """Short ranges that fit the grid."""
+    return made_ranges(chance, len(grid.loads), most), ranges_in(chance, grid.units)
+
+
+def misfits(grid):
+    """Ranges that do not fit the grid: too many, too few, or beyond a unit's own range."""
+    sizes = [(0, 999)] * len(grid.loads)
+    outs = [(unit.low, unit.high) for unit in grid.units]
+    found = [(sizes + [(0, 0)], outs), (sizes, outs + [(0, 0)]), (outs + sizes + [(1, 1)], [(0, 0)] * 7)]
+    if sizes:
+        found += [(sizes[1:], outs), (sizes[1:], outs + [(0, 0)])]
+    if outs:
+        found += [(sizes, outs[1:]), (sizes + [(0, 0)], outs[1:])]
+    for k, unit in enumerate(grid.units):
+        if unit.high < 999:
+            found.append((sizes, outs[:k] + [(unit.low, unit.high + 1)] + outs[k + 1:]))
+            found.append((sizes, outs[:k] + [(999, 999)] + outs[k + 1:]))
+        if unit.low > 0:
+            found.append((sizes, outs[:k] + [(unit.low - 1, unit.high)] + outs[k + 1:]))
+    return found
+
+
+def wrong_numbers(sizes, outs, one):
+    """The lists with one too many or too few, in one of them or in both; `one` is what is added."""
+    found = [(sizes + [one], outs), (sizes, outs + [one]), (sizes + [one], outs + [one])]
+    if sizes:
+        found += [(sizes[1:], outs), (sizes[:-1], outs + [one]), ([], outs)]
+    if outs:
+        found += [(sizes, outs[1:]), (sizes + [one], outs[:-1]), (sizes, [])]
+    return found

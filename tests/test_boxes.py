@@ -5,7 +5,7 @@ import unittest
 from lampward.box.boxes import Box, fits, is_within, meet
 from lampward.errors import BadBox, Misfit
 from lampward.net.grid import Grid, Line, Load, Unit
-from tests.helpers import made_grids, view
+from tests.helpers import made_grids, made_ranges, ranges_of, view
 
 BIG = 10 ** 60 - 1
 BAD_RANGES = [
@@ -13,18 +13,6 @@ BAD_RANGES = [
 ]
 GOOD_RANGES = [(0, 0), (999, 999), (0, 999), (5, 5), (4, 5), (0, 1), (998, 999)]
 TINY = [(low, high) for low in range(4) for high in range(low, 4)]
-
-
-def ranges_of(box):
-    return (tuple(box.sizes), tuple(box.outs))
-
-
-def made_ranges(chance, many, most=999):
-    rows = []
-    for _ in range(many):
-        low = chance.randint(0, most)
-        rows.append((low, chance.randint(low, most)))
-    return rows
 
 
 class Making(unittest.TestCase):

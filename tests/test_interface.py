@@ -13,6 +13,10 @@ FUNCTIONS = {
     "lampward.flow.solving": ["solve"],
     "lampward.flow.flows": ["heights", "flows", "factors"],
     "lampward.box.boxes": ["fits", "meet", "is_within"],
+    "lampward.box.points": ["is_even", "even_point"],
+    "lampward.box.changing": ["widen", "draw_in"],
+    "lampward.loss.taking": ["after"],
+    "lampward.text.boxes": ["write_box", "read_box"],
 }
 CLASSES = {
     "lampward.errors": [
@@ -21,6 +25,7 @@ CLASSES = {
     ],
     "lampward.net.grid": ["Line", "Unit", "Load", "Grid"],
     "lampward.box.boxes": ["Box"],
+    "lampward.loss.taking": ["After"],
 }
 METHODS = {("lampward.box.boxes", "Box"): ["holds"]}
 

@@ -1,0 +1,1 @@
+"""Losses: the state after a case, and the harms."""

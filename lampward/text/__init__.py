@@ -1,0 +1,1 @@
+"""Texts that are written and read."""
