@@ -216,24 +216,26 @@ def ranges_of(box):
 
 def small_grid(chance, most=4, parts=5):
     """A grid with few loads and units, whose ranges are short."""
-    buses = chance.randint(1, 5)
+    buses = chance.choice([1, 1, 2, 2, 3, 4])
     lines = []
-    for k in range(chance.randint(0, buses)):
-        if buses > 1:
-            a, b = chance.sample(range(buses), 2)
-            lines.append(Line("l" + str(k), a, b, chance.randint(1, 9), chance.randint(0, 5)))
-    many = chance.randint(0, parts)
+    for k in range(chance.randint(0, 3 * buses - 3)):
+        a, b = chance.sample(range(buses), 2)
+        lines.append(Line("l" + str(k), a, b, chance.randint(1, 9), chance.randint(0, 5)))
+    many = chance.choice([0, 1, 3, parts - 1, parts, parts])
     units = []
-    for k in range(chance.randint(0, many)):
-        low = chance.randint(0, most)
-        units.append(Unit("u" + str(k), chance.randrange(buses), low, chance.randint(low, most), chance.randint(0, 3)))
+    for k in range(chance.choice([many // 2, chance.randint(0, many)])):
+        low = chance.choice([0, chance.randint(0, most)])
+        high = chance.choice([most, chance.randint(low, most)])
+        units.append(Unit("u" + str(k), chance.randrange(buses), low, high, chance.randint(0, 3)))
     loads = [Load("d" + str(k), chance.randrange(buses)) for k in range(many - len(units))]
     return Grid(buses, lines, units, loads)
 
 
 def small_box(chance, grid, most=4):
-    """Short ranges that fit the grid."""
-    return made_ranges(chance, len(grid.loads), most), ranges_in(chance, grid.units)
+    """Short ranges that fit the grid; those of the units are often their own."""
+    sizes = [chance.choice([(0, most), row]) for row in made_ranges(chance, len(grid.loads), most)]
+    outs = ranges_in(chance, grid.units)
+    return sizes, [chance.choice([(unit.low, unit.high), row]) for unit, row in zip(grid.units, outs)]
 
 
 def misfits(grid):
@@ -261,4 +263,33 @@ def wrong_numbers(sizes, outs, one):
         found += [(sizes[1:], outs), (sizes[:-1], outs + [one]), ([], outs)]
     if outs:
         found += [(sizes, outs[1:]), (sizes + [one], outs[:-1]), (sizes, [])]
+    return found
+
+
+def made_weights(chance, grid, few=False):
+    """Weights, as fractions of Python: few different ones, so that many are equal, opposite or 0, or many."""
+    def made():
+        if few:
+            return Fraction(chance.choice([-1, -1, 0, 0, 1, 1, 2]))
+        return Fraction(chance.randint(-20, 20), chance.randint(1, 6))
+    return [made() for _ in grid.loads], [made() for _ in grid.units]
+
+
+def pairs(weights):
+    """The weights, as Lampward has them."""
+    return [pair(weight) for weight in weights[0]], [pair(weight) for weight in weights[1]]
+
+
+def slow_sum(weights, sizes, outs):
+    return sum((weight * number for weight, number in zip(weights[0] + weights[1], sizes + outs)), Fraction(0))
+
+
+def slow_bound(grid, sizes, outs, weights, prices):
+    """The bound of prices, from ranges, and from weights and prices as fractions of Python."""
+    parts = island_lists(grid)
+    found = Fraction(0)
+    for sign, places, ranges, numbers in ((-1, grid.loads, sizes, weights[0]), (1, grid.units, outs, weights[1])):
+        for place, row, weight in zip(places, ranges, numbers):
+            price = prices[[place.bus in island for island in parts].index(True)]
+            found += max((weight + sign * price) * end for end in row)
     return found

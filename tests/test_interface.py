@@ -16,6 +16,10 @@ FUNCTIONS = {
     "lampward.box.points": ["is_even", "even_point"],
     "lampward.box.changing": ["widen", "draw_in"],
     "lampward.loss.taking": ["after"],
+    "lampward.loss.harms": ["harms", "harmless"],
+    "lampward.worst.sums": ["sum_of", "bound"],
+    "lampward.worst.greatest": ["greatest"],
+    "lampward.grant.watches": ["watches_of", "watches"],
     "lampward.text.boxes": ["write_box", "read_box"],
 }
 CLASSES = {
@@ -26,6 +30,7 @@ CLASSES = {
     "lampward.net.grid": ["Line", "Unit", "Load", "Grid"],
     "lampward.box.boxes": ["Box"],
     "lampward.loss.taking": ["After"],
+    "lampward.grant.watches": ["Watch"],
 }
 METHODS = {("lampward.box.boxes", "Box"): ["holds"]}
 

@@ -1,0 +1,1 @@
+"""Watches, and what is granted by them."""

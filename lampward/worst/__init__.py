@@ -1,0 +1,1 @@
+"""Greatest sums of the points of a box, and bounds for them."""
