@@ -8,7 +8,7 @@ from lampward.num.fractions import less
 def harms(grid, case, sizes, outs):
     """Return the harms of the case at the point, in their order."""
     state = after(grid, case, sizes, outs)
-    return _left(state) + _out_of_range(state) + _overloaded(state)
+    return _left(state) + _out_of_range(state) + _beyond_limit(state)
 
 
 def harmless(grid, sizes, outs):
@@ -35,7 +35,7 @@ def _out_of_range(state):
     return found
 
 
-def _overloaded(state):
+def _beyond_limit(state):
     found = []
     for line, flow in zip(state.grid.lines, state.flows):
         if flow is not None and (less((line.limit, 1), flow) or less(flow, (-line.limit, 1))):
