@@ -293,3 +293,45 @@ def slow_bound(grid, sizes, outs, weights, prices):
             price = prices[[place.bus in island for island in parts].index(True)]
             found += max((weight + sign * price) * end for end in row)
     return found
+
+
+def sturdy_grid(chance, most=9, limits=(1, 3, 6, 9, 15, 30), groups=None):
+    """A grid that often bears losses: islands of one to three buses in a ring, each with units of wide ranges."""
+    lines, units, loads, buses = [], [], [], 0
+    for _ in range(groups or chance.choice([1, 1, 1, 2])):
+        many = chance.choice([1, 2, 2, 3])
+        ends = [(k, (k + 1) % many) for k in range(many)] if many > 1 else []
+        for a, b in ends + chance.sample(ends, min(len(ends), chance.choice([0, 0, 1]))):
+            name = "l" + str(len(lines))
+            lines.append(Line(name, buses + a, buses + b, chance.randint(1, 3), chance.choice(limits)))
+        for _ in range(chance.choice([2, 2, 3])):
+            high = chance.choice([most, most, chance.randint(3, most)])
+            units.append(Unit("u" + str(len(units)), buses + chance.randrange(many), 0, high, chance.randint(1, 3)))
+        for _ in range(chance.choice([1, 1, 2])):
+            loads.append(Load("d" + str(len(loads)), buses + chance.randrange(many)))
+        buses += many
+    return Grid(buses, lines, units, loads)
+
+
+def point_within(chance, grid, low=1, high=4):
+    """An even point whose outputs are from low to high, as far as the units' ranges allow it."""
+    outs = [min(max(chance.randint(low, high), unit.low), unit.high) for unit in grid.units]
+    sizes = [0] * len(grid.loads)
+    for island in island_lists(grid):
+        loads = at_island(grid.loads, island)
+        for k in at_island(grid.units, island):
+            if loads:
+                for _ in range(outs[k]):
+                    sizes[chance.choice(loads)] += 1
+            else:
+                outs[k] = grid.units[k].low
+    return sizes, outs
+
+
+def ranges_around(chance, grid, sizes, outs, width=2):
+    """Ranges that contain the point, of at most this width to each side."""
+    rows = [(max(0, n - chance.randint(0, width)), min(999, n + chance.randint(0, width))) for n in sizes]
+    others = []
+    for unit, n in zip(grid.units, outs):
+        others.append((max(unit.low, n - chance.randint(0, width)), min(unit.high, n + chance.randint(0, width))))
+    return rows, others

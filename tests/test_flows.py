@@ -3,7 +3,7 @@ import unittest
 from fractions import Fraction
 
 from lampward.errors import Misfit, Uneven
-from lampward.flow.flows import factors, flows, heights
+from lampward.flow.flows import all_factors, factors, flows, heights
 from lampward.net.cases import cases, grid_of
 from lampward.net.grid import Grid
 from tests.helpers import assert_fraction, island_lists, made_grids, pair, value, view, wired
@@ -246,6 +246,10 @@ class Factors(FlowTest):
         self.assertEqual(factors(wired(5, [(3, 1, 2), (4, 2, 7)]), 3), [(1, 1), (0, 1)])
         self.assertEqual(factors(wired(5, [(3, 1, 2), (4, 2, 7)]), 4), [(0, 1), (1, 1)])
         self.assertEqual(factors(wired(5, [(3, 1, 2), (4, 2, 7)]), 0), [(0, 1), (0, 1)])
+
+    def test_those_of_all_buses(self):
+        for grid in some_grids():
+            self.assertEqual(all_factors(grid), [factors(grid, bus) for bus in range(grid.buses)])
 
     def test_lists_may_be_changed(self):
         for grid in some_grids()[:20]:

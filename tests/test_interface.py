@@ -20,6 +20,11 @@ FUNCTIONS = {
     "lampward.worst.sums": ["sum_of", "bound"],
     "lampward.worst.greatest": ["greatest"],
     "lampward.grant.watches": ["watches_of", "watches"],
+    "lampward.grant.granting": ["grant"],
+    "lampward.grant.proving": ["prove", "check"],
+    "lampward.reach.drifting": ["goes", "reach"],
+    "lampward.reach.keeping": ["kept"],
+    "lampward.text.grids": ["write_grid", "read_grid"],
     "lampward.text.boxes": ["write_box", "read_box"],
 }
 CLASSES = {
@@ -31,6 +36,7 @@ CLASSES = {
     "lampward.box.boxes": ["Box"],
     "lampward.loss.taking": ["After"],
     "lampward.grant.watches": ["Watch"],
+    "lampward.grant.granting": ["Refusal"],
 }
 METHODS = {("lampward.box.boxes", "Box"): ["holds"]}
 

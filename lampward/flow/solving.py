@@ -5,6 +5,17 @@ from lampward.num.fractions import minus, over, times
 
 def solve(rows):
     """Return the one solution of the system, or None if there is not exactly one."""
+    found = solve_all(rows)
+    if found is None:
+        return None
+    return [values[0] for values in found]
+
+
+def solve_all(rows):
+    """Solve systems that differ in their right sides only, which follow one another in each row.
+
+    Return, for each unknown, its values in all the systems, or None if they do not have exactly one solution each.
+    """
     left = [list(row) for row in rows]
     many = len(left)
     for column in range(many):
@@ -18,7 +29,7 @@ def solve(rows):
         for k in range(many):
             if k != column:
                 left[k] = _without(left[k], left[column], left[k][column])
-    return [row[many] for row in left]
+    return [row[many:] for row in left]
 
 
 def _row_with(rows, column):

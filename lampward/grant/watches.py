@@ -1,6 +1,6 @@
 """Watches: what must hold at a point if a case is to do no harm there."""
 
-from lampward.flow.flows import factors
+from lampward.flow.flows import all_factors
 from lampward.net.cases import cases, grid_of
 from lampward.net.islands import islands
 from lampward.net.places import island_numbers, weight_of
@@ -55,7 +55,7 @@ def _of_units(taken, case, outs):
 
 def _of_lines(grid, taken, case, outs):
     found = []
-    reach = [factors(taken, bus) for bus in range(taken.buses)]
+    reach = all_factors(taken)
     for k, line in enumerate(taken.lines):
         flow = _flow_weights(grid, taken, outs, [row[k] for row in reach])
         found.append(Watch(case, "forth", line.name, flow, line.limit))

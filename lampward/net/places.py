@@ -8,6 +8,11 @@ def placed(parts, island):
     return [k for k, part in enumerate(parts) if part.bus in island]
 
 
+def all_placed(parts, grid):
+    """Return, for each island of the grid, the indexes of the loads or units that stand in it."""
+    return [placed(parts, island) for island in islands(grid)]
+
+
 def island_numbers(grid):
     """Return, for each bus, the index of its island."""
     numbers = [0] * grid.buses
