@@ -26,6 +26,10 @@ FUNCTIONS = {
     "lampward.reach.keeping": ["kept"],
     "lampward.text.grids": ["write_grid", "read_grid"],
     "lampward.text.boxes": ["write_box", "read_box"],
+    "lampward.text.proofs": ["write_proof", "read_proof"],
+    "lampward.desk.rebuilding": ["rebuild"],
+    "lampward.plan.planning": ["plan"],
+    "lampward.plan.checking": ["check_plan"],
 }
 CLASSES = {
     "lampward.errors": [
@@ -37,8 +41,14 @@ CLASSES = {
     "lampward.loss.taking": ["After"],
     "lampward.grant.watches": ["Watch"],
     "lampward.grant.granting": ["Refusal"],
+    "lampward.desk.desk": ["Desk"],
 }
-METHODS = {("lampward.box.boxes", "Box"): ["holds"]}
+METHODS = {
+    ("lampward.box.boxes", "Box"): ["holds"],
+    ("lampward.desk.desk", "Desk"): [
+        "now", "lost", "point", "box", "see", "ask", "lose", "mend", "sure", "alarms", "undo", "journal",
+    ],
+}
 
 
 class Interface(unittest.TestCase):

@@ -1,0 +1,1 @@
+"""The control desk and its journal."""

@@ -1,0 +1,1 @@
+"""Plans: safe outputs of the least cost, and proofs that there is nothing better."""
