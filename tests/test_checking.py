@@ -144,7 +144,7 @@ class Rows(CheckTest):
         at = titles.index(("v", "high", "u", 9))
         for size, found in ((9, 0), (10, None), (11, None), (29, None)):
             self.assertEqual(self.checked(grid, [size], [1, 1], (None, None), [("harm", at, [(0, 1)])]), found)
-        for number in (-1, -len(titles), len(titles), len(titles) + 5, 10 ** 30):
+        for number in (at - len(titles), -1, -len(titles), len(titles), len(titles) + 5, 10 ** 30):
             self.assertEqual(self.checked(grid, [10], [1, 1], (None, None), [("harm", number, [(0, 1)])]), 0)
         for prices in ([], [(1, 1), (1, 1)], [(0, 1)] * 9):
             self.assertEqual(self.checked(grid, [10], [1, 1], (None, None), [("harm", at, prices)]), 0)

@@ -85,6 +85,14 @@ class GreatGrids(PlanTest):
             seen[cost is None] += 1
         self.assertGreater(min(seen.values()), 10)
 
+    def test_costs_just_above_those_that_cannot_be(self):
+        """Grids for which the last cost that is tried is the least one less 1."""
+        for seed, many in ((41, 6), (495, 5), (767, 6)):
+            chance = random.Random(seed)
+            span, tight = chance.choice([20, 60, 1998 // many - 40]), chance.choice([1.5, 2.5, 4])
+            grid, sizes, costs = plan_grid(chance, many, span, tight)
+            self.assertIsNotNone(self.planned(grid, sizes, costs)[0])
+
     def test_costs_that_are_equal(self):
         """Cheap units behind a narrow line, and dear ones: many outputs cost the same."""
         for many, span, costs in ((2, 300, [10, 20]), (2, 300, [0, 1]), (3, 30, [10, 20]), (3, 40, [5, 5])):
