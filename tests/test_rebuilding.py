@@ -106,6 +106,18 @@ class Right(RebuildTest):
         self.assertEqual(desk.journal(), "see 1 1 : 1 1\n")
 
 
+    def test_many_deeds_on_a_full_grid(self):
+        lines = [Line("l" + str(k), k % 9, (k + 1 + k // 9) % 9, 1 + k % 9, 9999) for k in range(12)]
+        units = [Unit("u" + str(k), k, 0, 999, 1 + k) for k in range(6)]
+        grid = Grid(9, lines, units, [Load("d" + str(k), 8 - k) for k in range(6)])
+        many = " ".join(["10..20"] * 6)
+        one = " ".join(["10"] * 6)
+        deeds = [f"see {one} : {one}", f"ask {many} : {many}", f"ask {many} : {many}", "lose l0", "mend l0"]
+        desk = self.assert_rebuilt(joined(deeds * 20 + [deeds[1]] * 100 + [deeds[0]]), grid)
+        self.assertIs(desk.sure(), True)
+        self.assertEqual(desk.alarms(), [])
+
+
 class Wrong(RebuildTest):
     def assert_bad_in_place(self, k, wrong):
         rows = last_rows()

@@ -5,7 +5,7 @@ from lampward.grant.watches import watches
 from lampward.plan.claims import cost_of, first_box
 from lampward.plan.refuting import Book, refute
 from lampward.plan.rules import Supply, safety_rules
-from lampward.plan.searching import cheapest, cost_rule
+from lampward.plan.searching import search_cheapest
 
 
 def plan(grid, sizes, costs):
@@ -13,16 +13,13 @@ def plan(grid, sizes, costs):
     box = first_box(grid, sizes, costs)
     if is_empty(grid, box):
         return (None, None, [("empty",)])
-    found = watches(grid)
+    asked = watches(grid)
     supply = Supply(grid, sizes)
-    rules = safety_rules(found, sizes, supply)
+    rules = safety_rules(asked, sizes, supply)
     lows = [low for low, _ in box.outs]
     highs = [high for _, high in box.outs]
-    outs = cheapest(supply, rules, costs, lows, highs)
-    cost = None
-    if outs is not None:
-        cost = cost_of(costs, outs)
-        rules = [cost_rule(supply, costs, cost - 1)] + rules
-    book = Book(grid, sizes, costs, found)
-    refute(book, supply, rules, lows, highs)
-    return (cost, outs, book.rows)
+    found = search_cheapest(supply, rules, costs, lows, highs)
+    book = Book(grid, sizes, costs, asked)
+    refute(book, found.root, lows, highs)
+    cost = None if found.outs is None else cost_of(costs, found.outs)
+    return (cost, found.outs, book.rows)

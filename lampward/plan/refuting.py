@@ -1,8 +1,7 @@
-"""The rows of a proof that no outputs keep all rules."""
+"""The rows of a proof: a search that found nothing, written down."""
 
 from lampward.box.boxes import Box
-from lampward.plan.narrowing import narrow
-from lampward.plan.splitting import best_split, divided
+from lampward.plan.splitting import divided
 from lampward.worst.greatest import greatest
 from lampward.worst.weighing import opposite
 
@@ -32,45 +31,45 @@ class Book:
 
 
 class Part:
-    """Ranges that are not done, with the rules for them, or with a rule that is known to be kept nowhere in them."""
+    """Ranges that are not done: those of a node of a search, or those in which a rule is known to be kept nowhere."""
 
-    def __init__(self, lows, highs, rules, broken):
+    def __init__(self, lows, highs, node, broken):
         self.lows = lows
         self.highs = highs
-        self.rules = rules
+        self.node = node
         self.broken = broken
 
 
-def refute(book, supply, rules, lows, highs):
-    """Write the rows that show that no outputs within the ranges, which contain even points, keep all rules."""
-    pending = [Part(lows, highs, rules, None)]
+def refute(book, root, lows, highs):
+    """Write the rows of a search that began with these ranges and found nothing."""
+    pending = [Part(lows, highs, root, None)]
     while pending:
         part = pending.pop()
-        if part.broken is None:
-            pending.extend(_opened(book, supply, part))
-        else:
+        if part.node is None:
             book.close(part.broken, part.lows, part.highs)
+        else:
+            pending.extend(_opened(book, part))
 
 
-def _opened(book, supply, part):
-    """Write how the part is narrowed and divided, and return the parts that are left to be done, the next one last."""
-    state = narrow(supply, part.rules, part.lows, part.highs)
+def _opened(book, part):
+    """Write how the part was narrowed and divided, and return the parts that are left to be done, the next one last."""
     left = []
-    # The ranges of the state leave out what is uneven, those of the proof's boxes do not.
+    # The ranges of the node leave out what is uneven, those of the proof's boxes do not.
     lows = part.lows
     highs = part.highs
-    for cut in state.cuts:
+    for cut in part.node.state.cuts:
         book.divide(cut.unit, cut.at)
         lower, upper = divided(lows, highs, cut.unit, cut.at)
         if cut.is_low:
             book.close(cut.rule, lower[0], lower[1])
             lows, highs = upper
         else:
-            left.append(Part(upper[0], upper[1], [], cut.rule))
+            left.append(Part(upper[0], upper[1], None, cut.rule))
             lows, highs = lower
-    if state.broken is not None:
-        return left + [Part(lows, highs, [], state.broken)]
-    split = best_split(supply, state)
+    if part.node.state.broken is not None:
+        return left + [Part(lows, highs, None, part.node.state.broken)]
+    split = part.node.division
     book.divide(split.unit, split.at)
     lower, upper = divided(lows, highs, split.unit, split.at)
-    return left + [Part(upper[0], upper[1], state.rules, None), Part(lower[0], lower[1], state.rules, None)]
+    below, above = part.node.parts
+    return left + [Part(upper[0], upper[1], above, None), Part(lower[0], lower[1], below, None)]

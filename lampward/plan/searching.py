@@ -6,46 +6,70 @@ from lampward.plan.rules import Rule, levelled, ranked
 from lampward.plan.splitting import best_split, divided
 
 
-def cost_rule(supply, costs, cost):
-    """Return the rule that the outputs cost at most so much."""
-    factors, most = levelled(supply, costs, cost)
-    return Rule(supply, factors, most, None)
+class Node:
+    """Ranges in a search, with the rules that are not known to be kept everywhere in them.
 
-
-def cheapest(supply, rules, costs, lows, highs):
-    """Return outputs within the ranges that keep all rules and cost the least, or None if there are none.
-
-    The ranges contain even points.
+    `state` tells how they were narrowed. If no rule was broken by that, `division` tells where
+    they were divided, and `parts` has the nodes of both parts, the lower one first.
     """
+
+    def __init__(self, lows, highs, rules):
+        self.lows = lows
+        self.highs = highs
+        self.rules = rules
+        self.state = None
+        self.division = None
+        self.parts = []
+
+
+class Search:
+    """What a search has found: outputs that keep all rules, or None, and the node that it began with."""
+
+    def __init__(self, outs, root):
+        self.outs = outs
+        self.root = root
+
+
+def search(supply, rules, costs, lows, highs):
+    """Search the ranges, which contain even points, for outputs that keep all rules."""
     order = ranked(supply, costs)
-    best = _find(supply, rules, order, lows, highs)
-    if best is None:
-        return None
-    # Between costs that differ by less than the factors of this rule can tell, there is nothing to search.
-    aim = cost_rule(supply, costs, 0)
-    least = least_sum(aim, lows, highs)
-    while least < sum_at(aim, best):
-        aim.most = (least + sum_at(aim, best) - 1) // 2
-        found = _find(supply, [aim] + rules, order, lows, highs)
-        if found is None:
-            least = aim.most + 1
-        else:
-            best = found
-    return best
-
-
-def _find(supply, rules, order, lows, highs):
-    """Return outputs within the ranges that keep all rules, or None if there are none."""
-    pending = [(lows, highs, rules)]
+    root = Node(lows, highs, rules)
+    pending = [root]
     while pending:
-        part_lows, part_highs, left = pending.pop()
-        state = narrow(supply, left, part_lows, part_highs)
+        node = pending.pop()
+        state = narrow(supply, node.rules, node.lows, node.highs)
+        node.state = state
         if state.broken is None:
             outs = _cheapest_within(order, state.lows, state.highs)
             if all([sum_at(rule, outs) <= rule.most for rule in state.rules]):
-                return outs
-            pending.extend(_parts(supply, state))
-    return None
+                return Search(outs, root)
+            pending.extend(_divide(supply, node))
+    return Search(None, root)
+
+
+def search_cheapest(supply, rules, costs, lows, highs):
+    """Search the ranges, which contain even points, for outputs that keep all rules and cost the least.
+
+    The root is that of a search that found nothing: nothing at all, or nothing that costs less.
+    """
+    found = search(supply, rules, costs, lows, highs)
+    if found.outs is None:
+        return found
+    best = found.outs
+    # The factors tell costs apart, in smaller numbers.
+    factors, _ = levelled(supply, costs, 0)
+    aim = Rule(supply, factors, 0, None)
+    least = least_sum(aim, lows, highs)
+    below = search(supply, [Rule(supply, factors, least - 1, None)] + rules, costs, lows, highs)
+    while least < sum_at(aim, best):
+        most = (least + sum_at(aim, best) - 1) // 2
+        found = search(supply, [Rule(supply, factors, most, None)] + rules, costs, lows, highs)
+        if found.outs is None:
+            below = found
+            least = most + 1
+        else:
+            best = found.outs
+    return Search(best, below.root)
 
 
 def _cheapest_within(order, lows, highs):
@@ -57,9 +81,10 @@ def _cheapest_within(order, lows, highs):
     return outs
 
 
-def _parts(supply, state):
-    """Return both parts of divided ranges, with their rules, the one of which more is left behind the other one."""
-    split = best_split(supply, state)
-    lower, upper = divided(state.lows, state.highs, split.unit, split.at)
-    parts = [upper, lower] if split.is_low_first else [lower, upper]
-    return [(lows, highs, state.rules) for lows, highs in parts]
+def _divide(supply, node):
+    """Divide the ranges of the node, and return both parts, the one of which more is left behind the other one."""
+    split = best_split(supply, node.state)
+    ranges = divided(node.state.lows, node.state.highs, split.unit, split.at)
+    node.division = split
+    node.parts = [Node(lows, highs, node.state.rules) for lows, highs in ranges]
+    return node.parts[::-1] if split.is_low_first else node.parts
